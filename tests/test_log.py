@@ -383,8 +383,10 @@ class Counting(Case):
     def test_any_left_begins_a_record(self):
         log = Log(disk_of(24, 6, self.MASTER, {10: (10, 2, 3, 9, 1)}))
         self.same(log.records(), [])
-        log = Log(disk_of(24, 6, self.MASTER, {10: (10, 2, 3, 0, 1), 11: (11, 2, 4, 1, 2), 12: (12, 2, 4, 0, 3)}))
-        self.same(log.records(), [(3, (1,)), (4, (2, 3))])
+        for record in range(8):
+            rows = {10: (10, 2, record, 0, 1), 11: (11, 2, record + 1, 1, 2), 12: (12, 2, record + 1, 0, 3)}
+            log = Log(disk_of(24, 6, self.MASTER, rows))
+            self.same(log.records(), [(3, (1,)), (4, (2, 3))] if record == 3 else [])
 
     def test_epochs(self):
         def with_epochs(*epochs):

@@ -484,6 +484,27 @@ class Soundness(Checked):
         batch.give_page(batch.top)
         self.same(is_sound(batch), False)
 
+    def test_pages_beneath_themselves(self):
+        batch = PlainBatch()
+        page, other = batch.take_page(), batch.take_page()
+        batch.set_root(page)
+        for first, second in [(page, page), (other, other), (other, page)]:
+            for child in (page, other):
+                batch.put(page, ("inner", first, "b", 0, second, "c", 0, first, "d", 0, second))
+                batch.put(other, ("inner", child, "b", 0, child, "c", 0, child, "d", 0, child))
+                self.same(is_sound(batch), False)
+
+    def test_inner_items_of_any_length(self):
+        inner = max([self.batch.get(page) for page in self.inner], key=len)
+        self.assertGreater(len(inner), 14)
+        for page in self.inner:
+            for many in range(len(inner)):
+                # of whole rows, enough of them, a tree may be left that is sound
+                if many % 3 != 2 or many < 11:
+                    self.same(self.with_items(page, inner[:many]), False)
+            for more in [(0,), ("a",), ("a", 1), ("a", 1, 0), ("zz", 1, 599)]:
+                self.same(self.with_items(page, (*self.batch.get(page), *more)), False)
+
     def test_a_long_row_of_inner_pages(self):
         batch = PlainBatch()
         pages = [batch.take_page() for _ in range(590)]

@@ -160,6 +160,7 @@ class WrongNeeds(Case):
         for thing in odd_things() + [4, 0, TOP + 1, "5", (5,), 10 ** 60]:
             self.told(NoNumber, [(5, 1), (3, 1)], (), thing)
             self.told(NoNumber, [(5, 1), (3, 1)], None, thing)
+            self.told(NoNumber, [(5, 1)], (), thing)
         for thing in odd_things() + [TOP + 1]:
             for lot in ((), None):
                 self.raises(NoNumber, needed, [], lot, thing)

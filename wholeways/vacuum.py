@@ -43,12 +43,15 @@ def asked_of(open_lot, last):
     return sorted(set(list(open_lot) + [last]))
 
 
-def seen_at(versions, snapshot):
-    """The version that a snapshot sees, or None."""
-    for version in versions:
-        if version[0] <= snapshot:
-            return version
-    return None
+def seen_each(versions, snapshots):
+    """The list of the versions that ascending snapshots see, None where there is none."""
+    found = []
+    place = len(versions)
+    for snapshot in snapshots:
+        while place > 0 and versions[place - 1][0] <= snapshot:
+            place -= 1
+        found.append(versions[place] if place < len(versions) else None)
+    return found
 
 
 def needed(versions, open_lot, last):
@@ -59,30 +62,32 @@ def needed(versions, open_lot, last):
 
 def needed_commits(versions, open_lot, last):
     """A gone one is needed only to hide an elder one that is needed."""
-    seen = [seen_at(versions, snapshot) for snapshot in asked_of(open_lot, last)]
+    seen = {version[0]: True for version in seen_each(versions, asked_of(open_lot, last)) if version is not None}
     found = []
-    for version in reversed(versions):
-        if version in seen and (version[1] is not None or found):
-            found.append(version[0])
+    for commit, mark in reversed(versions):
+        if commit in seen and (mark is not None or found):
+            found.append(commit)
     return tuple(found)
 
 
 def is_kept_right(versions, open_lot, last, thing):
     """Whether a thing is a lot of commits of which alone each asked snapshot sees the same, or none for a gone one."""
     need_all(versions, open_lot, last)
-    commits = [commit for commit, _ in versions]
-    if not is_lot(thing) or not all([commit in commits for commit in thing]):
+    if not is_lot(thing):
         return False
-    kept = [version for version in versions if version[0] in thing]
-    return all([is_same(seen_at(versions, snapshot), seen_at(kept, snapshot))
-                for snapshot in asked_of(open_lot, last)])
+    chosen = {commit: True for commit in thing}
+    kept = [version for version in versions if version[0] in chosen]
+    if len(kept) < len(chosen):
+        return False
+    asked = asked_of(open_lot, last)
+    return all([is_same(whole, alone) for whole, alone in zip(seen_each(versions, asked), seen_each(kept, asked))])
 
 
-def is_same(whole, kept):
-    """Whether a version that is seen of those that are kept may stand for the one that is seen of all."""
-    if kept is None:
+def is_same(whole, alone):
+    """Whether what is seen of those that are kept may stand for what is seen of all."""
+    if alone is None:
         return whole is None or whole[1] is None
-    return kept == whole
+    return alone == whole
 
 
 def harm(versions, open_lot, last, commit):
@@ -91,8 +96,9 @@ def harm(versions, open_lot, last, commit):
     if not is_integer(commit) or commit not in [number for number, _ in versions]:
         raise NoVersion()
     others = [version for version in versions if version[0] != commit]
-    for snapshot in asked_of(open_lot, last):
-        if told(seen_at(versions, snapshot)) != told(seen_at(others, snapshot)):
+    asked = asked_of(open_lot, last)
+    for snapshot, whole, less in zip(asked, seen_each(versions, asked), seen_each(others, asked)):
+        if told(whole) != told(less):
             return snapshot
     return None
 
@@ -113,7 +119,7 @@ def takeable(batch, open_lot, last):
         rows.setdefault(key, []).append((commit, mark))
     found = []
     for key, versions in rows.items():
-        kept = needed_commits(versions, open_lot, last)
+        kept = {commit: True for commit in needed_commits(versions, open_lot, last)}
         found.extend([(key, commit) for commit, _ in reversed(versions) if commit not in kept])
     return found
 
