@@ -209,8 +209,10 @@ class Form(Case):
             let = {id(node.iter) for node in walked(tree, ast.For, ast.comprehension)}
             let |= {id(node.args[0]) for node in walked(tree, ast.Call) if isinstance(node.func, ast.Name) and node.args
                     and node.func.id in ("list", "tuple", "dict", "sorted", "sum", "any", "all")}
+            let |= {id(node.args[0]) for node in walked(tree, ast.Call) if isinstance(node.func, ast.Name)
+                    and node.func.id == "reversed" and node.args and ast.unparse(node.args[0]).startswith("range(")}
             for node in walked(tree, ast.Call):
                 kept = isinstance(node.func, ast.Name) and node.func.id in ("range", "zip", "enumerate", "reversed")
                 kept = kept or (isinstance(node.func, ast.Attribute) and node.func.attr in ("items", "keys", "values"))
                 if kept:
-                    self.assertIn(id(node), let)
+                    self.assertIn(id(node), let, ast.unparse(node))

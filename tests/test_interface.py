@@ -23,6 +23,9 @@ INTERFACE = {
     "vacuum": "needed(versions, open_lot, last) is_kept_right(versions, open_lot, last, thing) "
               "harm(versions, open_lot, last, commit) takeable(batch, open_lot, last) sweep(batch, open_lot, last, most)",
     "log": "formatted(blocks, ring)",
+    "store": "new_store(blocks, ring)",
+    "recovery": "pages_of(disk) meaning(disk) prefix_of(disk) commits_of(disk)",
+    "graph": "worth_there(graph, name) leads_from(graph, name) leads_to(graph, name) pairs_of(graph) is_whole(thing) graph_of(pairs)",
 }
 
 CLASSES = {
@@ -34,6 +37,15 @@ CLASSES = {
     ("disk", "Disk"): "__init__(blocks) blocks() reached() write(block, content) reach(block) force(lot) calm() power(many) cut() "
                       "read(block) lying(block) waiting() copy()",
     ("log", "Log"): "__init__(disk) append(thing) room() ring_size() forced() last() force(number) begin_at(number) records()",
+    ("pages", "Pages"): "__init__(disk) batch() held(page) dirty() write_out(page) force(number) checkpoint() record() forced() room() "
+                        "in_use() high() many() notes()",
+    ("pages", "Batch"): "get(page) put(page, items) give_page(page) set_root(page) set_last(number) dropped() take_page() root() last() "
+                        "done(note) changed()",
+    ("store", "Store"): "__init__(disk) begin() stands_at(number) last() lasting() sweep(most) vacuum() debt() get(number, key) "
+                        "between(number, low, high) versions() put(number, key, worth) drop(number, key) "
+                        "also_saw(number, keys, ranges) abort(number) force() checkpoint() wrote(number) seen(number) commit(number) "
+                        "commit_soon(number) open_ones() now() open_snapshots() dirty() write_out(page) disk() ties_of_now()",
+    ("graph", "Graph"): "__init__(nodes, ties) __eq__(other)",
 }
 
 

@@ -1,9 +1,12 @@
-"""The words that all parts share: integers, numbers, words, keys, worths, marks, items, lots."""
+"""The words that all parts share: integers, numbers, words, keys, worths, marks, items, lots, names."""
 
 GREATEST_WORTH = 10 ** 18
 GREATEST_ITEM = 10 ** 30
 GREATEST_COMMIT = 10 ** 18
+GREATEST_WEIGHT = 10 ** 9
 LONGEST_WORD = 12
+NAME_LENGTH = 3
+TIE_WORD_LENGTH = 2
 
 
 def is_integer(thing):
@@ -55,3 +58,25 @@ def is_lot(thing):
 def is_items(thing, least, most):
     """Whether a thing is a tuple of so many items."""
     return isinstance(thing, tuple) and least <= len(thing) <= most and all([is_item(item) for item in thing])
+
+
+def is_name(thing):
+    """Whether a thing can be the name of a node."""
+    return is_word(thing) and len(thing) == NAME_LENGTH
+
+
+def is_tie_word(thing):
+    """Whether a thing can be the word of a tie."""
+    return is_word(thing) and len(thing) == TIE_WORD_LENGTH
+
+
+def is_weight(thing):
+    return is_within(thing, 0, GREATEST_WEIGHT)
+
+
+def is_pair(thing):
+    return isinstance(thing, tuple) and len(thing) == 2
+
+
+def is_triple(thing):
+    return isinstance(thing, tuple) and len(thing) == 3

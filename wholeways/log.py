@@ -39,13 +39,23 @@ def pieces_of(record):
     return [record[k:k + PIECE] for k in range(0, len(record), PIECE)]
 
 
-def counted(disk):
-    """The contents of the blocks that count, by what is read on the disk, from the start on that the master tells."""
-    master = disk.read(0)
+def master_of(disk):
+    """What is read in block 0: BadDisk for what is no disk, and for what is no master."""
+    if not isinstance(disk, Disk) or not is_master(disk.read(0), disk.blocks()):
+        raise BadDisk()
+    return disk.read(0)
+
+
+def counted(disk, latest):
+    """The contents of the blocks that count, by what is read on the disk, from the start on that the master tells.
+
+    latest is the epoch of the opening for which is asked.
+    """
+    master = master_of(disk)
     found = []
     for k in range(master[3], master[3] + master[2]):
         content = disk.read(1 + k % master[2])
-        if not is_piece(content, k) or content[1] > master[1]:
+        if not is_piece(content, k) or content[1] > latest:
             return found
         if not (goes_on(found[-1], content) if found else begins(master, content)):
             return found
@@ -75,14 +85,24 @@ def goes_on(ahead, content):
     return record == ahead[2] and left == ahead[3] - 1 and epoch == ahead[1]
 
 
+def read_prefix(disk, latest):
+    """Of each record that the opening of this epoch reads the triple (number, record, epoch)."""
+    found = []
+    items = []
+    for content in counted(disk, latest):
+        items.extend(content[HEAD:])
+        if content[3] == 0:
+            found.append((content[2], tuple(items), content[1]))
+            items = []
+    return found
+
+
 class Log:
     """Records with running numbers, each in blocks of the ring one behind the other."""
 
     def __init__(self, disk):
-        if not isinstance(disk, Disk) or not is_master(disk.read(0), disk.blocks()):
-            raise BadDisk()
+        _, epoch, ring, k, number, first = master_of(disk)
         disk.calm()
-        _, epoch, ring, k, number, first = disk.read(0)
         disk.write(0, (MASTER, epoch + 1, ring, k, number, first))
         disk.force((0,))
         self._disk = disk
@@ -93,16 +113,9 @@ class Log:
         self._kept = []
         self._begin_k = k
         self._next_k = k
-        self._read_all()
+        for _, record, written in read_prefix(disk, epoch + 1):
+            self._keep(record, written)
         self._forced = self.last()
-
-    def _read_all(self):
-        items = []
-        for content in counted(self._disk):
-            items.extend(content[HEAD:])
-            if content[3] == 0:
-                self._keep(tuple(items), content[1])
-                items = []
 
     def _keep(self, record, epoch):
         self._kept.append((record, self._next_k, epoch))
