@@ -141,6 +141,17 @@ class Form(Case):
                 stored = {node.attr for node in walked(kind, ast.Attribute) if isinstance(node.ctx, ast.Store)}
                 self.assertFalse(stored & set(methods), kind.name)
 
+    def test_no_attribute_is_a_method_elsewhere(self):
+        """Narrower than it must be, but nothing has to be asked then of how such a name is called."""
+        stored = {node.attr for tree in self.trees.values() for node in walked(tree, ast.Attribute) if isinstance(node.ctx, ast.Store)}
+        self.assertFalse(stored & own_methods(self.trees.values()))
+
+    def test_no_name_at_module_level_is_made_of_another(self):
+        for _, tree in self.each():
+            for node in tree.body:
+                if isinstance(node, ast.Assign):
+                    self.assertEqual(walked(node.value, ast.Name), [])
+
     def test_builtins_and_methods(self):
         own = own_methods(self.trees.values()) | {"put", "take_page", "give_page", "root", "set_root"}
         for name, tree in self.each():

@@ -26,6 +26,19 @@ INTERFACE = {
     "store": "new_store(blocks, ring)",
     "recovery": "pages_of(disk) meaning(disk) prefix_of(disk) commits_of(disk)",
     "graph": "worth_there(graph, name) leads_from(graph, name) leads_to(graph, name) pairs_of(graph) is_whole(thing) graph_of(pairs)",
+    "shape": "add_node(store, number, name, worth) set_node(store, number, name, worth) drop_node(store, number, name) "
+             "add_tie(store, number, first, word, second, weight) set_tie(store, number, first, word, second, weight) "
+             "drop_tie(store, number, first, word, second) node_worth(store, number, name) "
+             "tie_weight(store, number, first, word, second) ties_from(store, number, name, word) ties_to(store, number, name, word) "
+             "graph_seen(store, number)",
+    "paths": "is_path(graph, thing) path_weight(graph, path) turned(path)",
+    "expressions": "is_expression(thing) matches(expression, graph, path) size(expression) stretches(expression, graph, path) "
+                   "turned_expression(expression)",
+    "automata": "automaton(expression) passes(graph, node, stretch) can_end(automaton, graph, place) "
+                "ends_with(automaton, worth, state) run(automaton, graph, path) next_places(automaton, graph, place) "
+                "behind(automaton, worth, state, step) ahead(automaton, worth, state, step) wants(automaton, worth, state) "
+                "comes(automaton, state)",
+    "products": "is_question(thing) steps_from(graph, question, place) steps_to(graph, question, place)",
 }
 
 CLASSES = {
@@ -46,6 +59,7 @@ CLASSES = {
                         "also_saw(number, keys, ranges) abort(number) force() checkpoint() wrote(number) seen(number) commit(number) "
                         "commit_soon(number) open_ones() now() open_snapshots() dirty() write_out(page) disk() ties_of_now()",
     ("graph", "Graph"): "__init__(nodes, ties) __eq__(other)",
+    ("automata", "Automaton"): "__init__(atoms, moves, ends) __eq__(other)",
 }
 
 
