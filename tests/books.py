@@ -1,6 +1,6 @@
 """A store over plain dicts of the commits, against which the real one is held."""
 
-from wholeways.errors import NoRoom, Refused, Stopped, TooLarge
+from wholeways.errors import NoRoom, Refused, TooLarge
 from wholeways.judges import Dealing
 from wholeways.store import Store
 
@@ -8,19 +8,6 @@ from tests.test_serial import Account
 from tests.test_vacuum import plain_needed
 
 KEYS = ("a", "aa", "b", "c", "d", "dz", "m", "zzzzzzzzzzzz")
-
-
-def some_reach(draw, disk):
-    """Any of what waits reaches the disk, of each block the eldest first; then the power fails."""
-    disk.power(None)
-    likely = draw.random()
-    for block, many in disk.waiting().items():
-        for _ in range(many):
-            if draw.random() < likely:
-                disk.reach(block)
-            else:
-                break
-    disk.cut()
 
 
 class Deal:
@@ -237,12 +224,3 @@ class Books:
             self.case.same(self.worths[commit].get(key), mark)
         self.held(store)
         return store
-
-
-def stopped(call, *things):
-    """Whether the power failed amid a call."""
-    try:
-        call(*things)
-    except Stopped:
-        return True
-    return False

@@ -4,7 +4,7 @@ import random
 import unittest
 
 from wholeways.disk import Disk
-from wholeways.errors import Ended, NoItems, NoNumber, NoPage, NoRoom, Refused
+from wholeways.errors import Ended, NoItems, NoNumber, NoPage, NoRoom, Refused, Stopped
 from wholeways.judges import Dealing
 from wholeways.kinds import is_items, is_within
 
@@ -37,6 +37,28 @@ def odd_things():
             ("a", "a"), ("b", "a"), (1, 1), (2, 1), (1, "a"), ("a", 1, None), [[[]]], deep(40), deep(40, list),
             deep_dict(40), tuple([0] * 20000), tuple([()] * 20000), [deep(30)] * 600, Ended(), Refused((0, 1)),
             Disk(16), Dealing(0, None, (), (), ())]
+
+
+def some_reach(draw, disk):
+    """Any of what waits reaches the disk, of each block the eldest first; then the power fails."""
+    disk.power(None)
+    likely = draw.random()
+    for block, many in disk.waiting().items():
+        for _ in range(many):
+            if draw.random() < likely:
+                disk.reach(block)
+            else:
+                break
+    disk.cut()
+
+
+def stopped(call, *things):
+    """Whether the power failed amid a call."""
+    try:
+        call(*things)
+    except Stopped:
+        return True
+    return False
 
 
 class PlainBatch:

@@ -293,6 +293,33 @@ class Running(Case):
         self.same(run(automaton(x), graph, ("aaa", ("ab", 1), "bbb")), None)
         self.same((run(automaton(("here",)), graph, ("aaa",)), run(automaton(W), graph, ("aaa",))), ((0,), None))
 
+    def test_a_first_run_that_looks_ahead_at_worths(self):
+        graph = Graph((("aaa", 0), ("bbb", 1)), ((("aaa", "ab", "bbb"), 1), (("bbb", "xy", "aaa"), 1)))
+        path = ("aaa", ("ab", 1), "bbb", ("xy", 1), "aaa")
+        for sign, worth, told in (("=", 1, (0, 1, 2)), ("=", 0, (0, 3, 4)), ("<", 1, (0, 3, 4)), (">", 0, (0, 1, 2))):
+            x = ("or", ("then", ANY, ("then", ("node", sign, worth), ANY)), ("then", ANY, ANY))
+            self.same(run(automaton(x), graph, path), told)
+            self.same(run(automaton(x[1]), graph, path), told if told == (0, 1, 2) else None)
+
+    def test_with_many_tests_of_worths(self):
+        """Between any two steps of an expression stands a test of worths."""
+        met = {True: 0, False: 0}
+        for seed in range(300):
+            draw = drawn(seed)
+            graph = drawn_graph(draw, worths=(0, 1, 2))
+            path = drawn_path(draw, graph, draw.choice((1, 2, 3, 5)))
+            if path is None:
+                continue
+            test = ("or", ("node", draw.choice("<=>"), draw.choice((0, 1, 2))), ("node", "=", draw.choice((0, 1, 2))))
+            step = ("or", ("then", test, ANY), ("then", ("node", draw.choice("<=>"), 1), ("or", ANY, ("word", draw.choice(WORDS)))))
+            expression = ("or", ("times", draw.randrange(3), 3, step), ("plus", ("then", step, test)))
+            m = automaton(expression)
+            runs = plain_runs(m, graph, path)
+            self.same(run(m, graph, path), runs[0] if runs else None)
+            self.same(matches(expression, graph, path), runs != [])
+            met[runs != []] += 1
+        self.assertGreater(min(met.values()), 50)
+
     def test_long_paths(self):
         graph = Graph((("aaa", 1),), ((("aaa", "ab", "aaa"), 1),))
         path = ("aaa",) + (("ab", 1), "aaa") * 500

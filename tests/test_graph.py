@@ -17,7 +17,8 @@ NOT_TIES = odd_things() + [("abc", "xy", "def"), (("abc", "xy", "def"),), (("abc
                            (("abc", "xyz", "def"), 5), (("abc", "XY", "def"), 5), (("abc", 5, "def"), 5), (("ab", "xy", "def"), 5),
                            (("abc", "xy", "de"), 5), (("abc", "xy", "def"), -1), (("abc", "xy", "def"), 10 ** 9 + 1),
                            (("abc", "xy", "def"), True), (("abc", "xy", "def"), None), (("abc", "xy", "def"), "5"), (("abc", "xy", "ghi"), 5),
-                           (("ghi", "xy", "abc"), 5), ((None, "xy", "abc"), 5), (("abc", "xy", ("def",)), 5), (deep(37), 5)]
+                           (("ghi", "xy", "abc"), 5), ((None, "xy", "abc"), 5), (("abc", "xy", ("def",)), 5), (deep(37), 5),
+                           ((["abc"], "xy", "def"), 5), (("abc", "xy", ["def"]), 5), (({}, "xy", "def"), 5), (("abc", "xy", {}), 5), ((("abc",), "xy", "def"), 5)]
 
 
 def parts_of(graph):

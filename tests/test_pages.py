@@ -5,7 +5,7 @@ from wholeways.errors import BadDisk, NoItems, NoNote, NoNumber, NoPage, NoRoom,
 from wholeways.log import Log, formatted
 from wholeways.pages import Pages
 
-from tests.helping import Case, deep, drawn, odd_things
+from tests.helping import Case, deep, drawn, odd_things, some_reach, stopped
 
 TOP = 10 ** 30
 NOT_PAGES = [thing for thing in odd_things()] + [TOP, 10 ** 59, "1", (1,), [1], 1000]
@@ -511,6 +511,18 @@ class Leading(Case):
         pages.checkpoint()
         self.same((disk.lying(0), pages.record(), pages.forced()), (("master", 1, 8, 4, 4, 1), 3, 3))
 
+    def test_a_checkpoint_forces_the_log_ahead_of_all_pages(self):
+        """Also records that tell no page; then the pages, ascending, then the master."""
+        for many in range(6):
+            pages = fresh()
+            disk = pages._disk
+            self.put_one(pages, 1, 5)
+            pages.batch().done(("a",))
+            disk.power(many)
+            self.same(stopped(pages.checkpoint), many < 5)
+            self.same([disk.lying(block) != () for block in (1, 2, 10)], [many > 0, many > 1, many > 3])
+            self.same((disk.lying(9)[0], disk.lying(0)[4]), (0 if many > 2 else -1, 2 if many > 4 else 0))
+
     def test_a_checkpoint_of_nothing(self):
         pages = fresh()
         self.same((pages.checkpoint(), pages.record(), pages.forced(), pages.notes()), (None, -1, -1, []))
@@ -685,26 +697,11 @@ class Fact(Case):
             pages._disk.reach(draw.choice(list(pages._disk.waiting())))
         least.append(pages.forced())
 
-    def some_reach(self, draw, disk):
-        """Any of what waits reaches the disk, of each block the eldest first."""
-        disk.power(None)
-        likely = draw.random()
-        for block, many in disk.waiting().items():
-            for _ in range(many):
-                if draw.random() < likely:
-                    disk.reach(block)
-                else:
-                    break
-        disk.cut()
-
     def opened_amid(self, draw, disk, many):
         """A cut amid an opening, if this takes so many writes."""
         disk.power(many)
-        try:
-            Pages(disk)
-        except Stopped:
-            pass
-        self.some_reach(draw, disk)
+        stopped(Pages, disk)
+        some_reach(draw, disk)
 
     def test_lives(self):
         for seed in range(60):
@@ -723,7 +720,7 @@ class Fact(Case):
                         self.drawn_step(draw, pages, kept, forced)
                 except Stopped:
                     pass
-                self.some_reach(draw, disk)
+                some_reach(draw, disk)
                 least = forced[-1]
                 if draw.random() < 0.5:
                     self.opened_amid(draw, disk, draw.randrange(4))
@@ -763,16 +760,16 @@ class Fact(Case):
                 pages = Pages(disk)
                 disk.power(many)
                 kept, forced = {-1: {0: ("meta", -1, 1, 0, 0)}}, [-1]
-                stopped = False
+                is_stopped = False
                 try:
                     for _ in range(40):
                         self.drawn_step(draw, pages, kept, forced)
                 except Stopped:
-                    stopped = True
-                self.some_reach(other, disk)
+                    is_stopped = True
+                some_reach(other, disk)
                 self.held_right(Pages(disk), kept, forced[-1])
                 many += 1
-                if not stopped:
+                if not is_stopped:
                     break
             self.assertGreater(many, 20)
 

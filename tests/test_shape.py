@@ -8,9 +8,9 @@ from wholeways.shape import (add_node, add_tie, drop_node, drop_tie, graph_seen,
                              ties_from, ties_to)
 from wholeways.store import Store, new_store
 
-from tests.books import Books, Deal, some_reach, stopped
+from tests.books import Books, Deal
 from tests.graphs import TOP
-from tests.helping import Case, deep, drawn, odd_things
+from tests.helping import Case, deep, drawn, odd_things, some_reach, stopped
 from tests.test_store import put_all
 
 NAMES = ("aaa", "bbb", "mno", "zzz")

@@ -7,8 +7,8 @@ from wholeways.log import formatted
 from wholeways.recovery import commits_of, meaning, prefix_of
 from wholeways.store import Store, new_store
 
-from tests.books import Books, some_reach, stopped
-from tests.helping import Case, drawn, odd_things
+from tests.books import Books
+from tests.helping import Case, drawn, odd_things, some_reach, stopped
 from tests.test_transactions import WRONG_KEYS, WRONG_RANGES, WRONG_SEEN_KEYS, WRONG_WORTHS
 
 TOP = 10 ** 18

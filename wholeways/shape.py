@@ -167,7 +167,6 @@ def ties_at(store, number, sign, name, word):
 
 def graph_seen(store, number):
     """The graph that a transaction sees."""
-    need_open(store, number)
     pairs = {}
     for sign in (NODE_SIGN, TIE_SIGN, TURNED_SIGN):
         for key, worth in store.between(number, sign, sign + "z" * (LONGEST_WORD - 1)):
