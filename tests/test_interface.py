@@ -38,6 +38,10 @@ INTERFACE = {
                 "ends_with(automaton, worth, state) run(automaton, graph, path) next_places(automaton, graph, place) "
                 "behind(automaton, worth, state, step) ahead(automaton, worth, state, step) wants(automaton, worth, state) "
                 "comes(automaton, state)",
+    "papers": "is_answer(graph, question, thing)",
+    "best": "best(graph, question) best_by(graph, question, plan) best_in(store, number, question, plan) best_sum(graph, question) "
+            "places(graph, question) far(graph, question) sums_to(graph, question)",
+    "plans": "weighed(graph, question) reach(graph, question, plan) chosen(graph, question) chosen_in(store, number, question)",
     "products": "is_question(thing) steps_from(graph, question, place) steps_to(graph, question, place)",
 }
 
@@ -58,6 +62,8 @@ CLASSES = {
                         "between(number, low, high) versions() put(number, key, worth) drop(number, key) "
                         "also_saw(number, keys, ranges) abort(number) force() checkpoint() wrote(number) seen(number) commit(number) "
                         "commit_soon(number) open_ones() now() open_snapshots() dirty() write_out(page) disk() ties_of_now()",
+    ("kept", "Kept"): "__init__(store) ask(number, question) commit(number) commit_soon(number) worked() told_again() asked_for(question) "
+                      "questions() forget()",
     ("graph", "Graph"): "__init__(nodes, ties) __eq__(other)",
     ("automata", "Automaton"): "__init__(atoms, moves, ends) __eq__(other)",
 }

@@ -14,6 +14,12 @@ def is_in(worth, stretch):
     return low <= worth <= high
 
 
+def starts_of(stretches):
+    """The ascending list of the least worths of all kinds: worths in which all these stretches tell alike."""
+    starts = [low for low, _ in stretches] + [high + 1 for _, high in stretches if high < GREATEST_WORTH]
+    return sorted(set([-GREATEST_WORTH] + starts))
+
+
 def row_of_test(sign, worth):
     """The row of the worths that pass the test of a node."""
     low = -GREATEST_WORTH if sign == "<" else worth + (1 if sign == ">" else 0)
