@@ -328,6 +328,15 @@ class InStores(Case):
             self.raises(NoPlan, best_in, store, number, QUESTION, plan)
         self.same(store.seen(number), (1, (), (), ()))
 
+    def test_keys_put_otherwise(self):
+        """No graph is seen then, so nothing is promised of the answer, but that there is one."""
+        store = new_store(200, 60)
+        store.commit(put_all(store, {**pairs_of(GRAPH), "tdefxyabc": -9, "rabcxydef": -9, "tabcxyzzz": 1, "rdefxyzzz": 1, "tabcxyzz": 1}))
+        for end in ("def", "abc", "zzz"):
+            for plan in PLANS:
+                for expression in (("star", ANY), ("plus", ("back", "xy")), ("times", 2, 5, ANY)):
+                    self.assertIn(best_in(store, store.begin(), ("abc", expression, end), plan)[0], ("path", "none"))
+
     def test_nodes_that_are_not_there(self):
         store = new_store(64, 24)
         for question in (("abc", ("star", ANY), "def"), ("abc", HERE, "abc")):

@@ -38,6 +38,11 @@ INTERFACE = {
                 "ends_with(automaton, worth, state) run(automaton, graph, path) next_places(automaton, graph, place) "
                 "behind(automaton, worth, state, step) ahead(automaton, worth, state, step) wants(automaton, worth, state) "
                 "comes(automaton, state)",
+    "reading_paths": "expression_text(expression) read_expression(text)",
+    "alikeness": "parting(one, other) is_parting(one, other, thing) is_alike_table(one, other, thing) alike_table(one, other)",
+    "orders": "is_order(thing) on_graph(graph, order) in_store(kept, store, number, order)",
+    "sessions": "graph_played(blocks, ring, play) is_right_graph_account(play, account)",
+    "graphdesk": "graph_tale(blocks, ring, lines)",
     "papers": "is_answer(graph, question, thing)",
     "best": "best(graph, question) best_by(graph, question, plan) best_in(store, number, question, plan) best_sum(graph, question) "
             "places(graph, question) far(graph, question) sums_to(graph, question)",
@@ -64,6 +69,7 @@ CLASSES = {
                         "commit_soon(number) open_ones() now() open_snapshots() dirty() write_out(page) disk() ties_of_now()",
     ("kept", "Kept"): "__init__(store) ask(number, question) commit(number) commit_soon(number) worked() told_again() asked_for(question) "
                       "questions() forget()",
+    ("graphdesk", "GraphDesk"): "__init__(blocks, ring) tell(line)",
     ("graph", "Graph"): "__init__(nodes, ties) __eq__(other)",
     ("automata", "Automaton"): "__init__(atoms, moves, ends) __eq__(other)",
 }

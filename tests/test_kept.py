@@ -241,6 +241,35 @@ class Fits(Small):
         self.kept.ask(self.store.begin(), QUESTION)
         self.same(self.counts(), (2, 0))
 
+    def test_the_ends_of_a_range(self):
+        """Ties whose keys are the first and the last ones of all that a question by any word asks for."""
+        graph = Graph((("aaa", 0), ("zzz", 0)), ((("aaa", "mm", "zzz"), 5),))
+        for first, word, second in (("aaa", "aa", "aaa"), ("aaa", "zz", "zzz"), ("zzz", "aa", "aaa"), ("zzz", "zz", "zzz")):
+            store = Listening(new_store(200, 80).disk())
+            kept = Kept(store)
+            kept.commit(put_all(store, pairs_of(graph)))
+            question = (first, ("plus", ("any",)), second)
+            kept.ask(store.begin(), question)
+            ranges = kept.asked_for(question)[1]
+            self.assertTrue(ranges)
+            number = store.begin()
+            add_tie(store, number, first, word, second, 1)
+            kept.commit(number)
+            kept.ask(store.begin(), question)
+            self.same((kept.worked(), kept.told_again()), (2, 0))
+            for low, high in ranges:
+                for key in (low, high):
+                    self.touched(graph, question, key)
+
+    def touched(self, graph, question, key):
+        """Whatever is put at a key that was asked for, the answer is not told again."""
+        store = Listening(new_store(200, 80).disk())
+        kept = Kept(store)
+        kept.commit(put_all(store, pairs_of(graph)))
+        kept.ask(store.begin(), question)
+        kept.commit(put_all(store, {key: 1}))
+        self.same((kept.ask(store.begin(), question)[0] in ("path", "none"), kept.worked()), (True, 2))
+
     def test_own_writes(self):
         """What a transaction wrote of what was asked for: neither told again, nor kept; the elder answer stays."""
         self.kept.ask(self.store.begin(), QUESTION)

@@ -103,6 +103,22 @@ class Paths(Case):
                      ("aaa", ("ab", 1), "bbb", ("ab", -1), "aaa", ("ab", 1), "bbb", ("ab", 1), "ccc")] + odd_things():
             self.same(self.right(path, 5, self.sums), False)
 
+    def test_paths_of_the_same_sum(self):
+        """By values and rest all is right, but the path is not one of the question."""
+        points = (("aaa", 1), ("bbb", 2), ("ccc", 3), ("ddd", 4))
+        graph = Graph(points, ((("aaa", "ab", "bbb"), 2), (("aaa", "xy", "ccc"), 5), (("bbb", "ab", "ccc"), 3), (("bbb", "ab", "ddd"), 3), (("ddd", "ab", "bbb"), 2)))
+        self.same(is_answer(graph, self.question, ("path", self.path, 5, self.sums)), True)
+        for path in [("aaa", ("xy", 1), "ccc"), ("aaa", ("ab", 1), "bbb", ("ab", 1), "ddd"), ("ddd", ("ab", 1), "bbb", ("ab", 1), "ccc"), ("aaa", ("ab", 1), "bbb", ("ab", 1), "aaa"), ("ddd", ("ab", 1), "bbb", ("ab", -1), "ddd")]:
+            self.same(is_answer(graph, self.question, ("path", path, 5, self.sums)), False)
+        # the star of one word, by runs that end in no state, or go by another state
+        for expression, goes in [(("star", W), True), (("then", W, W), True), (("then", W, ("then", W, W)), False), (("then", W, ("word", "xy")), False), (("then", ("node", ">", 1), ("plus", W)), False),
+                                 (("then", ("plus", W), ("node", "=", 3)), True), (("or", ("word", "xy"), ("then", W, W)), True), (("then", W, ("then", ("node", "=", 9), W)), False)]:
+            question = ("aaa", expression, "ccc")
+            spread = Spread(graph, question)
+            sums = {place: min(total, 5) for place, total in spread.front().items()}
+            answer = ("path", self.path, 5, sums)
+            self.same(is_answer(graph, question, answer), goes)
+
     def test_a_longer_path_of_the_same_sum(self):
         graph = Graph(self.graph.points, tuple((triple, 5 if triple == ("aaa", "ab", "ccc") else weight) for triple, weight in self.graph.links))
         for path in (self.path, ("aaa", ("ab", 1), "ccc")):
@@ -169,6 +185,8 @@ class None_(Case):
             self.same(self.right("none", "from", lot), False)
         for side in ["From", "", "fro", "to", None, ("from",), 0] + odd_things():
             self.same(self.right("none", side, self.front), False)
+        for side in ["To", "", "t", "from", "front", None, ("to",), 0] + odd_things():
+            self.same(self.right("none", side, self.back), False)
         for thing in [("none", "from"), ("none", "from", self.front, ()), ("none",), ("None", "from", self.front), ["none", "from", self.front], (self.front, "from", "none"), ("path", "from", self.front),
                       ("none", *RIGHT[1:]), (("none",), "from", self.front), (None, "from", self.front), deep(40), {"none": ("from", self.front)}] + odd_things():
             self.same(is_answer(self.graph, self.question, thing), False)

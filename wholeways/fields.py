@@ -2,7 +2,7 @@
 
 from wholeways.automata import START, automaton
 from wholeways.expressions import bits_of
-from wholeways.kinds import is_name, is_pair, is_within
+from wholeways.kinds import is_pair, is_within
 from wholeways.walkers import Walker
 
 
@@ -20,7 +20,7 @@ class Field:
 
     def is_place(self, thing):
         """Whether a thing is a pair of a node that is there and a state."""
-        if not is_pair(thing) or not is_name(thing[0]) or self._ground.worth_at(thing[0]) is None:
+        if not is_pair(thing) or self._ground.worth_at(thing[0]) is None:
             return False
         return is_within(thing[1], START, self._walker.many_states() - 1)
 

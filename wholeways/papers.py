@@ -2,11 +2,10 @@
 
 from wholeways.fields import Field
 from wholeways.grounds import PlainGround
-from wholeways.graph import worth_there
 from wholeways.kinds import is_ascending, is_within
 from wholeways.paths import is_path, path_weight
 from wholeways.products import need_question
-from wholeways.walkers import states_along
+from wholeways.walkers import is_matched
 
 
 def is_answer(graph, question, thing):
@@ -39,11 +38,7 @@ def is_path_answer(graph, question, field, answer):
 def is_matching(graph, question, field, path):
     """Whether a path leads from the begin to the end, and the expression matches it."""
     begin, _, end = question
-    if path[0] != begin or path[-1] != end:
-        return False
-    worths = [worth_there(graph, name) for name in path[::2]]
-    walker = field.walker()
-    return states_along(walker, worths, path[1::2]) & walker.closing_states(worths[-1]) != 0
+    return path[0] == begin and path[-1] == end and is_matched(field.walker(), graph, path)
 
 
 def is_step_wise(field, place, rest, sums):

@@ -12,7 +12,7 @@ PLANS = ("forward", "backward", "both")
 
 
 def need_plan(plan):
-    if not isinstance(plan, str) or plan not in PLANS:
+    if plan not in PLANS:
         raise NoPlan()
 
 

@@ -2,6 +2,7 @@
 
 from wholeways.automata import START, steps_of
 from wholeways.expressions import bits_of, lets
+from wholeways.graph import worth_there
 from wholeways.ranges import is_in, starts_of
 
 
@@ -86,6 +87,22 @@ def bits_in(worth, rows):
         if is_in(worth, stretch):
             found = found | 1 << state
     return found
+
+
+def lot_of_bits(states):
+    """The lot of the states whose bits are set."""
+    return tuple(bits_of(states))
+
+
+def bits_of_lot(lot):
+    """The states of a lot as bits."""
+    return sum([1 << state for state in lot])
+
+
+def is_matched(walker, graph, path):
+    """Whether there is a run along a path of a graph, whose expression matches it then."""
+    worths = [worth_there(graph, name) for name in path[::2]]
+    return states_along(walker, worths, path[1::2]) & walker.closing_states(worths[-1]) != 0
 
 
 def states_along(walker, worths, steps):
