@@ -171,6 +171,13 @@ class Alike(Case):
                                   (wide(300, "or"), ("star", W), 0), (row(*[LETTER] * 9), row(*[LETTER] * 8, ANY), 9)]:
             self.same((self.held(one, other), len(parting(one, other)[1]) // 2), ("apart", steps))
 
+    def test_a_long_path(self):
+        """All lengths but the multiples of 4, 5, 7 and 9 together, and nothing gone: so 1260 steps part it from the star."""
+        rows = [row(("times", 1, most - 1, W), ("star", ("times", most, most, W))) for most in (4, 5, 7, 9)]
+        one = ("or", ("or", HERE, rows[0]), ("or", rows[1], ("or", rows[2], rows[3])))
+        graph, path = parting(one, ("star", W))
+        self.same((is_parting(one, ("star", W), (graph, path)), len(path), len(graph.points), matches(one, graph, path), matches(("star", W), graph, path)), (True, 2521, 1261, False, True))
+
     def test_words_by_the_hundred(self):
         """So many words that the further one has to be looked for."""
         words = [first + second for first in "abcdefghijklmnopqrst" for second in "abcdefghijklmno"]
@@ -289,6 +296,8 @@ class Tables(Case):
         # one may stand in (1,), (1,) by these pairs, too, and come nowhere else by them
         self.same(is_alike_table(one, other, tuple(sorted(table + (((0, 1), (0, 1)),)))), True)
         self.same(is_alike_table(one, other, tuple(sorted(table + (((0,), (1,)),)))), True)
+        for lots in [((0, 2), (0,)), ((0,), (0, 2)), ((2,), (0,)), ((), (2,)), ((2,), ())]:
+            self.same(is_alike_table(one, other, tuple(sorted(table + (lots,)))), False)
         for thing in [table[1:], table[:1] + table[2:], table[:2], table[::-1], table + table[-1:], list(table), table + (((2,), (1,)),), table + (((1,), (2,)),), tuple(sorted(table + (((1,), ()),))),
                       tuple(sorted(table + (((), (0,)),))), table[:2] + (((1,), (1,), ()),), table[:2] + ([(1,), (1,)],), table[:2] + (([1], (1,)),), table[:2] + (((1,), [1]),), table[:2] + (((1,),),),
                       table[:2] + (((True,), (1,)),), table[:2] + (((1, 1), (1,)),), table + (((1, 0), (1,)),), table + (((-1,), (1,)),), table + (((10 ** 59,), (1,)),), (), (deep(39),), table + (None,), table + ("",),

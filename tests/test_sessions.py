@@ -257,6 +257,22 @@ class Plays(Case):
         account = graph_played(17, 8, ((many, (("see", "aaa"),)), (("go", 0),) * 45 + (("go", 1),) * 2, 3))
         self.same((account["ends"], account["commits"][0][2]), (("full", "over"), ((("see", "aaa"), None),)))
 
+    def test_vacuum_makes_room(self):
+        """Three commits of all worths are too many for so few pages, but two are not, once the first one's versions are gone."""
+        names = [sign + "aa" for sign in "abcdefghijklmn"]
+        sessions = (tuple(("node", name, 0) for name in names), *[tuple(("worth", name, k) for name in names) for k in (1, 2)])
+        rows = [(("go", k),) * 15 for k in range(3)]
+        for between, end in ((("check",), "full"), (("vacuum",), "over")):
+            account = graph_played(16, 7, (sessions, rows[0] + rows[1] + (between,) + rows[2], 0))
+            self.same(account["ends"], ("over", "over", end))
+
+    def test_force_lets_all_last(self):
+        sessions = ((("node", "aaa", 1),), (("node", "bbb", 1),))
+        for step, gone in ((("force",), ()), (("check",), ()), (("vacuum",), (0, 1)), (("out", 0), (1,)), (("reach", 1), (1,)), (("reach", 2), (0, 1)), (("reach", 65), (1,)), (("cut", (1,)), (1,)), (("cut", (2,)), (0, 1)), (("cut", (1, 2)), ())):
+            schedule = (("soon", 0),) * 2 + ((step,) if step[0] == "out" else ()) + (("soon", 1),) * 2 + (() if step[0] == "out" else (step,)) + (("cut", ()),)
+            account = graph_played(64, 24, (sessions, schedule, 0))
+            self.same(tuple(k for _, _, lot in account["cuts"] for k in lot), gone)
+
     def test_lists_are_new(self):
         play = ((((("node", "aaa", 1),)), (("best", "aaa", ("here",), "aaa"),)), (("go", 0),) * 2 + (("go", 1),) * 2, 0)
         account = graph_played(64, 24, play)
@@ -301,7 +317,7 @@ class WrongPlays(Case):
     def test_steps(self):
         wrong = odd_things() + [("go",), ("go", 2), ("go", -1), ("go", True), ("go", "0"), ("go", None), ("go", 0, 0), ["go", 0], ("soon",), ("soon", 2), ("soon", (0,)), ("out",), ("out", -1), ("out", 10 ** 18 + 1), ("out", False), ("out", "1"),
                                 ("reach",), ("reach", -1), ("reach", 10 ** 18 + 1), ("reach", None), ("force", 0), ("force", None), ("vacuum", 8), ("check", 0), ("cut",), ("cut", 0), ("cut", [1]), ("cut", (1, 1)), ("cut", (2, 1)), ("cut", (-1,)),
-                                ("cut", (True,)), ("cut", (10 ** 18 + 1,)), ("cut", ("1",)), ("cut", None), ("cut", (), ()), ("Go", 0), ("gone", 0), ("",), ("commit", 0), ("abort", 0), (0, "go"), (("go", 0),), ((), 0), (None,), "force", ("begin",), deep(38)]
+                                ("cut", (True,)), ("cut", (10 ** 18 + 1,)), ("cut", ("1",)), ("cut", None), ("cut", (), ()), ("cutt", ()), ("force", ()), ("", ()), ("Go", 0), ("gone", 0), ("",), ("commit", 0), ("abort", 0), (0, "go"), (("go", 0),), ((), 0), (None,), "force", ("begin",), deep(38)]
         for step in wrong:
             with self.subTest(step=repr(step)[:60]):
                 self.part((PLAY[0], (step,), 0), 0)
@@ -409,6 +425,32 @@ class Judge(Case):
         self.same(is_right_graph_account(play, {**account, "cuts": account["cuts"] + [(3, 2, ()), (4, 9, ())]}), True)
         for graph in [EMPTY, None, (account["graph"].points, account["graph"].links), Graph(account["graph"].points, ())] + odd_things():
             self.wrong(play, {**account, "graph": graph})
+
+    def test_numbers_of_other_kinds(self):
+        """A session told from behind, a flag in the lot of a cut: equal to what stands there, and yet another thing."""
+        play, account = self.account()
+        session, dealing, told, stands = account["commits"][3]
+        self.same(session, 3)
+        self.wrong(play, {**account, "commits": account["commits"][:3] + [(-1, dealing, told, stands)]})
+        play = ((((("node", "aaa", 1),)), (("node", "bbb", 1),)), (("go", 0), ("go", 0), ("soon", 1), ("soon", 1), ("cut", ())), 0)
+        account = graph_played(64, 24, play)
+        self.same((account["cuts"], is_right_graph_account(play, account)), ([(2, 1, (1,))], True))
+        for row in ((2, 1, (True,)), (2, True, (1,)), (2, 1, [1])):
+            self.wrong(play, {**account, "cuts": [row]})
+
+    def test_a_ring(self):
+        """Two that have seen what the other one wrote: no serial order holds both."""
+        play = (((("see", "aaa"),), (("see", "aaa"),)), (), 0)
+        rows = [(k, Dealing(0, k + 1, ("a", "b"), (), (("ab"[k], 1),)), ((("see", "aaa"), None),), True) for k in (0, 1)]
+        account = {"commits": rows, "forced": (), "cuts": [], "refused": [], "ends": (), "graph": EMPTY}
+        self.wrong(play, account)
+        self.same(is_right_graph_account(play, {**account, "commits": rows[:1]}), True)
+
+    def test_no_history(self):
+        play = (((("see", "aaa"),), (("see", "aaa"),)), (), 0)
+        for snapshot, number in ((0, 2), (1, None), (1, 2), (5, 6)):
+            row = (0, Dealing(snapshot, number, (), (), (("a", 1),) if number else ()), ((("see", "aaa"), None),), True)
+            self.wrong(play, {"commits": [row], "forced": (), "cuts": [], "refused": [], "ends": (), "graph": EMPTY})
 
     def test_what_is_told(self):
         """Kind by kind: a flag is no worth, a list no tuple; of best each right answer goes."""

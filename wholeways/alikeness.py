@@ -2,7 +2,6 @@
 
 from wholeways.automata import automaton
 from wholeways.errors import TooMany
-from wholeways.expressions import need_expression
 from wholeways.graph import Graph
 from wholeways.kinds import is_ascending, is_lot, is_pair
 from wholeways.paths import ALONG, is_path
@@ -15,8 +14,6 @@ LETTERS = "abcdefghijklmnopqrstuvwxyz"
 
 def sides_of(one, other):
     """Both automata, to be walked side by side."""
-    need_expression(one)
-    need_expression(other)
     return SideBySide(automaton(one), automaton(other))
 
 

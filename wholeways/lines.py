@@ -1,7 +1,7 @@
 """The lines of a desk: a word, and behind it what it takes, with one blank between two."""
 
 from wholeways.errors import BadSigns, NoExpression, NoLine
-from wholeways.kinds import is_name, is_tie_word, is_within, is_word, is_worth
+from wholeways.kinds import is_name, is_tie_word, is_within, is_word
 from wholeways.reading_paths import read_expression
 
 FIGURES = "0123456789"
@@ -100,6 +100,6 @@ def worth_in(text):
     if not text.startswith("-"):
         return number_in(text)
     worth = -number_in(text[1:])
-    if worth == 0 or not is_worth(worth):
+    if worth == 0:
         raise NoLine()
     return worth

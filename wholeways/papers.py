@@ -11,7 +11,7 @@ from wholeways.walkers import is_matched
 def is_answer(graph, question, thing):
     """Whether a thing is an answer that is right for a graph and a question."""
     need_question(question)
-    if not isinstance(thing, tuple) or len(thing) not in (3, 4) or not isinstance(thing[0], str):
+    if not isinstance(thing, tuple) or len(thing) not in (3, 4):
         return False
     field = Field(PlainGround(graph), question)
     if len(thing) == 4:
@@ -55,7 +55,7 @@ def is_step_wise(field, place, rest, sums):
 
 def is_none_answer(field, side, lot):
     """Whether a lot is closed on the side of the beginning, or of the ends, without what is on the other one."""
-    if not isinstance(side, str) or side not in ("from", "to"):
+    if side not in ("from", "to"):
         return False
     if not isinstance(lot, tuple) or not all([field.is_place(place) for place in lot]) or not is_ascending(lot):
         return False

@@ -40,7 +40,7 @@ def is_session(thing):
 
 def is_play_step(thing, many):
     """Whether a thing is a step of a schedule for so many sessions."""
-    if not isinstance(thing, tuple) or len(thing) not in (1, 2) or not isinstance(thing[0], str):
+    if not isinstance(thing, tuple) or len(thing) not in (1, 2):
         return False
     if len(thing) == 1:
         return thing[0] in ALONE

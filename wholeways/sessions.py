@@ -254,10 +254,4 @@ def is_like(thing, other):
         if not isinstance(thing, tuple) or len(thing) != len(other):
             return False
         return all([is_like(part, own) for part, own in zip(thing, other)])
-    if isinstance(other, str):
-        return isinstance(thing, str) and thing == other
-    return thing is None if other is None else is_number_like(thing, other)
-
-
-def is_number_like(thing, other):
-    return isinstance(thing, int) and not isinstance(thing, bool) and thing == other
+    return thing == other and not isinstance(thing, bool)
