@@ -432,6 +432,15 @@ class Judge(Case):
         session, dealing, told, stands = account["commits"][3]
         self.same(session, 3)
         self.wrong(play, {**account, "commits": account["commits"][:3] + [(-1, dealing, told, stands)]})
+        # a flag within an order, and within what was told
+        session, dealing, told, stands = account["commits"][0]
+        self.same(told[0][0], ("node", "aaa", 1))
+        self.wrong(play, {**account, "commits": [(session, dealing, ((("node", "aaa", True), "ok"),) + told[1:], stands)] + account["commits"][1:]})
+        one = (((("node", "aaa", 1), ("tie", "aaa", "ab", "aaa", 1), ("from", "aaa")),), (("go", 0),) * 4, 0)
+        account = graph_played(64, 24, one)
+        session, dealing, told, stands = account["commits"][0]
+        self.same((told[2][1], is_right_graph_account(one, account)), ((("ab", "aaa", 1),), True))
+        self.wrong(one, {**account, "commits": [(session, dealing, told[:2] + ((told[2][0], (("ab", "aaa", True),)),), stands)]})
         play = ((((("node", "aaa", 1),)), (("node", "bbb", 1),)), (("go", 0), ("go", 0), ("soon", 1), ("soon", 1), ("cut", ())), 0)
         account = graph_played(64, 24, play)
         self.same((account["cuts"], is_right_graph_account(play, account)), ([(2, 1, (1,))], True))
